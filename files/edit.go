@@ -4,6 +4,7 @@ import (
 	"slices"
 
 	"kaudit/api"
+	"kaudit/copies"
 )
 
 // edit is files while they are changed, with the changes of entries so far.
@@ -14,7 +15,7 @@ type edit struct {
 
 // edited returns f and the changes after a step, and nothing but the error if the step has one.
 func edited(f api.Files, step func(w *edit) api.Sys) (g api.Files, changes []api.Change, e api.Sys) {
-	w := edit{files: copyFiles(f)}
+	w := edit{files: copies.Files(f)}
 	defer func() {
 		if e == 0 {
 			w.dropLost()
@@ -170,27 +171,4 @@ func (w *edit) checkReplace(at, old api.File) api.Sys {
 		return api.ENOTEMPTY
 	}
 	return 0
-}
-
-// copies returns the list of the copies of the elements of list.
-func copies[T any](list []T, one func(T) T) []T {
-	var out []T
-	for _, x := range list {
-		out = append(out, one(x))
-	}
-	return out
-}
-
-func copyFiles(f api.Files) api.Files {
-	return api.Files{Devices: copies(f.Devices, copyDevice)}
-}
-
-func copyDevice(d api.Device) api.Device {
-	d.Nodes = copies(d.Nodes, copyNode)
-	return d
-}
-
-func copyNode(n api.Node) api.Node {
-	n.Entries = copies(n.Entries, func(e api.Entry) api.Entry { return e })
-	return n
 }
